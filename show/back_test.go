@@ -8,337 +8,11 @@ import (
 	"testing"
 
 	"inglenook/api"
-	"inglenook/lex"
+	"inglenook/parse"
 	"inglenook/show"
 	"inglenook/tree"
 	"inglenook/val"
 )
-
-// reader reads a text back by the language of chapter 9 alone, so that the tests of what is shown don't hang on package parse. It panics at what is no program.
-type reader struct {
-	words []lex.Token
-	at    int
-}
-
-func readBack(t *testing.T, s string) nodes {
-	t.Helper()
-	words, err := lex.All(s)
-	if err != nil {
-		t.Fatalf("%q: %v", s, err)
-	}
-	r := &reader{words: words}
-	l := r.statements()
-	if r.at < len(words) {
-		t.Fatalf("%q: more behind the program", s)
-	}
-	return l
-}
-
-// next is the text of the next word; a literal has none, and the end neither.
-func (r *reader) next() string {
-	if r.at < len(r.words) {
-		return r.words[r.at].S
-	}
-	return ""
-}
-
-func (r *reader) kind() int {
-	if r.at < len(r.words) {
-		return r.words[r.at].Kind
-	}
-	return 0
-}
-
-func (r *reader) line() int {
-	if r.at < len(r.words) {
-		return r.words[r.at].Line
-	}
-	return 0
-}
-
-func (r *reader) has(s string) bool {
-	found := r.next() == s
-	if found {
-		r.at++
-	}
-	return found
-}
-
-func (r *reader) want(s string) {
-	if !r.has(s) {
-		panic("no " + s + " but " + r.next())
-	}
-}
-
-func (r *reader) name() string {
-	if r.kind() != lex.Name {
-		panic("no name")
-	}
-	r.at++
-	return r.words[r.at-1].S
-}
-
-func (r *reader) statements() nodes {
-	var l nodes
-	for r.at < len(r.words) && !slices.Contains(strings.Fields("elseif else endif endfor endwhile endfork except finally endtry"), r.next()) {
-		l = append(l, r.statement())
-	}
-	return l
-}
-
-// block has no line: which one it has where there is no word in it, chapter 8 doesn't tell.
-func (r *reader) block() api.Node { return api.Node{Op: api.Block, L: r.statements()} }
-
-func (r *reader) bracketed() api.Node {
-	r.want("(")
-	n := r.expr()
-	r.want(")")
-	return n
-}
-
-func (r *reader) statement() api.Node {
-	line := r.line()
-	made := func(op int, s string, l ...api.Node) api.Node { return api.Node{Op: op, Line: line, S: s, L: l} }
-	switch {
-	case r.has("break"):
-		r.want(";")
-		return made(api.Break, "")
-	case r.has("continue"):
-		r.want(";")
-		return made(api.Continue, "")
-	case r.has("return"):
-		if r.has(";") {
-			return made(api.Return, "")
-		}
-		n := made(api.Return, "", r.expr())
-		r.want(";")
-		return n
-	case r.has("if"):
-		l := nodes{r.bracketed(), r.block()}
-		for r.has("elseif") {
-			l = append(l, r.bracketed(), r.block())
-		}
-		if r.has("else") {
-			l = append(l, r.block())
-		}
-		r.want("endif")
-		return made(api.If, "", l...)
-	case r.has("for"):
-		return r.loop(made)
-	case r.has("while"):
-		n := made(api.While, "", r.bracketed(), r.block())
-		r.want("endwhile")
-		return n
-	case r.has("fork"):
-		n := made(api.Fork, "", r.bracketed(), r.block())
-		r.want("endfork")
-		return n
-	case r.has("try"):
-		return r.tries(made)
-	}
-	n := made(api.Do, "", r.expr())
-	r.want(";")
-	return n
-}
-
-func (r *reader) loop(made func(int, string, ...api.Node) api.Node) api.Node {
-	name := r.name()
-	r.want("in")
-	if !r.has("[") {
-		n := made(api.ForIn, name, r.bracketed(), r.block())
-		r.want("endfor")
-		return n
-	}
-	from := r.expr()
-	r.want("..")
-	to := r.expr()
-	r.want("]")
-	n := made(api.ForTo, name, from, to, r.block())
-	r.want("endfor")
-	return n
-}
-
-func (r *reader) tries(made func(int, string, ...api.Node) api.Node) api.Node {
-	l := nodes{r.block()}
-	if r.has("finally") {
-		n := made(api.Finally, "", l[0], r.block())
-		r.want("endtry")
-		return n
-	}
-	for r.next() == "except" {
-		n := api.Node{Op: api.Except, Line: r.line()}
-		r.want("except")
-		if r.kind() == lex.Name {
-			n.S = r.name()
-		}
-		r.want("(")
-		codes := r.codes()
-		r.want(")")
-		n.L = nodes{codes, r.block()}
-		l = append(l, n)
-	}
-	r.want("endtry")
-	return made(api.Try, "", l...)
-}
-
-func (r *reader) codes() api.Node {
-	n := api.Node{Op: api.Make, Line: r.line()}
-	if r.has("any") {
-		return n
-	}
-	n.L = nodes{r.expr()}
-	for r.has(",") {
-		n.L = append(n.L, r.expr())
-	}
-	return n
-}
-
-// expr reads a Set or a Scatter, or what binds more.
-func (r *reader) expr() api.Node {
-	left := r.cond()
-	if !r.has("=") {
-		return left
-	}
-	right := r.expr()
-	if left.Op == api.Make {
-		return api.Node{Op: api.Scatter, Line: left.Line, L: append(left.L, right)}
-	}
-	return api.Node{Op: api.Set, Line: left.Line, L: nodes{left, right}}
-}
-
-func (r *reader) cond() api.Node {
-	n := r.two(0)
-	if !r.has("?") {
-		return n
-	}
-	second := r.cond()
-	r.want("|")
-	return api.Node{Op: api.Cond, Line: n.Line, L: nodes{n, second, r.cond()}}
-}
-
-// two reads operations of two from the left, those of one level of binding, or more.
-func (r *reader) two(level int) api.Node {
-	levels := []map[string]int{
-		{"||": api.Or}, {"&&": api.And},
-		{"==": api.Eq, "!=": api.Ne, "<": api.Lt, "<=": api.Le, ">": api.Gt, ">=": api.Ge, "in": api.In},
-		{"+": api.Add, "-": api.Sub}, {"*": api.Mul, "/": api.Div, "%": api.Mod},
-	}
-	if level == len(levels) {
-		return r.ahead()
-	}
-	n := r.two(level + 1)
-	for {
-		op := levels[level][r.next()]
-		if op == 0 {
-			return n
-		}
-		r.at++
-		n = api.Node{Op: op, Line: n.Line, L: nodes{n, r.two(level + 1)}}
-	}
-}
-
-func (r *reader) ahead() api.Node {
-	line := r.line()
-	if r.has("!") {
-		return api.Node{Op: api.Not, Line: line, L: nodes{r.ahead()}}
-	}
-	if r.next() == "-" && !r.negative() {
-		r.at++
-		return api.Node{Op: api.Neg, Line: line, L: nodes{r.ahead()}}
-	}
-	return r.behind()
-}
-
-// negative tells whether the next words are a minus and an Int.
-func (r *reader) negative() bool {
-	if r.next() != "-" || r.at+1 == len(r.words) {
-		return false
-	}
-	w := r.words[r.at+1]
-	return w.Kind == lex.Lit && w.V.Kind == api.Int
-}
-
-func (r *reader) behind() api.Node {
-	n := r.first()
-	for {
-		made := func(op int, l ...api.Node) api.Node { return api.Node{Op: op, Line: n.Line, L: append(nodes{n}, l...)} }
-		switch {
-		case r.has("["):
-			from := r.expr()
-			if r.has("..") {
-				n = made(api.Slice, from, r.expr())
-			} else {
-				n = made(api.Index, from)
-			}
-			r.want("]")
-		case r.has("."):
-			n = made(api.Prop, r.nameBehind())
-		case r.has(":"):
-			l := nodes{r.nameBehind()}
-			r.want("(")
-			n = made(api.Call, append(l, r.items(")")...)...)
-		default:
-			return n
-		}
-	}
-}
-
-func (r *reader) nameBehind() api.Node {
-	if r.next() == "(" {
-		return r.bracketed()
-	}
-	return api.Node{Op: api.Lit, Line: r.line(), V: val.S(r.name())}
-}
-
-func (r *reader) items(end string) nodes {
-	var l nodes
-	if r.has(end) {
-		return nil
-	}
-	for {
-		line := r.line()
-		if r.has("@") {
-			l = append(l, api.Node{Op: api.Splice, Line: line, L: nodes{r.expr()}})
-		} else {
-			l = append(l, r.expr())
-		}
-		if r.has(end) {
-			return l
-		}
-		r.want(",")
-	}
-}
-
-func (r *reader) first() api.Node {
-	n := api.Node{Line: r.line()}
-	switch {
-	case r.has("("):
-		n = r.expr()
-		r.want(")")
-	case r.has("{"):
-		n.Op, n.L = api.Make, r.items("}")
-	case r.has("`"):
-		n.Op, n.L = api.Catch, nodes{r.expr()}
-		r.want("!")
-		n.L = append(n.L, r.codes())
-		if r.has("=>") {
-			n.L = append(n.L, r.expr())
-		}
-		r.want("'")
-	case r.negative():
-		n.Op, n.V = api.Lit, val.I(-r.words[r.at+1].V.N)
-		r.at += 2
-	case r.kind() == lex.Lit:
-		n.Op, n.V = api.Lit, r.words[r.at].V
-		r.at++
-	default:
-		n.Op, n.S = api.Var, r.name()
-		if r.has("(") {
-			n.Op, n.L = api.Fun, r.items(")")
-		}
-	}
-	return n
-}
 
 // maker makes programs, from a start that is always the same.
 type maker struct{ *rand.Rand }
@@ -489,10 +163,15 @@ func lined(l nodes, line *int) nodes {
 	return out
 }
 
-// inBlock has the statements from the line behind on, and leaves line at the one behind them.
+// inBlock has the statements from the line behind on, and leaves line at the one behind them. A Block without a word has no line.
 func inBlock(n api.Node, line *int) api.Node {
 	*line++
-	return api.Node{Op: api.Block, L: lined(n.L, line)}
+	n.Line = 0
+	if len(n.L) > 0 {
+		n.Line = *line
+	}
+	n.L = lined(n.L, line)
+	return n
 }
 
 func allOn(n api.Node, line int) api.Node {
@@ -513,7 +192,10 @@ func back(t *testing.T, l nodes) {
 	if err != nil {
 		t.Fatal(err)
 	}
-	got := readBack(t, s)
+	got, err := parse.Program(s)
+	if err != nil {
+		t.Fatalf("%s\nis no program: %v", s, err)
+	}
 	if !tree.Same(l, got) {
 		t.Fatalf("%s\nis read as another one:\n%v\n%v", s, l, got)
 	}
